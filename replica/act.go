@@ -9,6 +9,17 @@ import (
 	"towline/tree"
 )
 
+// steps does what takes steps. Where that was cut off on its way, what is kept here isn't what lies in the file system: nothing more is done then, even if the power came back without a crash, until the copy is opened again.
+func (c *Replica) steps(do func() api.Errno) api.Errno {
+	if c.torn {
+		return api.ErrCut
+	}
+	was := c.fs.Steps()
+	e := do()
+	c.torn = e == api.ErrCut && c.fs.Steps() > was
+	return e
+}
+
 // safely does something in a fork first: what is refused there has changed nothing here.
 func (c *Replica) safely(do func(c *Replica) (api.ID, api.Errno)) (api.ID, api.Errno) {
 	fork, e := Open(c.fs.Fork())
@@ -18,7 +29,11 @@ func (c *Replica) safely(do func(c *Replica) (api.ID, api.Errno)) (api.ID, api.E
 	if _, e := do(fork); e != api.OK {
 		return api.ID{}, e
 	}
-	id, e := do(c)
+	var id api.ID
+	e = c.steps(func() (e api.Errno) {
+		id, e = do(c)
+		return e
+	})
 	if e != api.OK {
 		return api.ID{}, e
 	}

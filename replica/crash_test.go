@@ -49,6 +49,11 @@ func (do doing) anywhere(t *testing.T, fs *vfs.FS) {
 				if done = e == api.OK; !done && e != api.ErrCut {
 					t.Fatalf("cut off at step %d: %v", stop, e)
 				}
+				if !done && stop > 0 && acts == 3 {
+					// Nothing is promised of calls then, but the copy is still one of the two.
+					f.Stop(-1)
+					tries(c)
+				}
 				f.Crash(acts, n)
 				if acts == 2 && n == 20 {
 					do.openCut(t, f, was, is)
@@ -69,6 +74,20 @@ func (do doing) anywhere(t *testing.T, fs *vfs.FS) {
 	if len(found) < 2 && was != is {
 		t.Errorf("no crash tells %q from %q", was, is)
 	}
+}
+
+// tries: each call that changes a copy.
+func tries(c *replica.Replica) {
+	head := c.Head()
+	c.Write(snap.File{Path: "tried", Data: []byte("t")})
+	c.Remove("a")
+	c.Commit(object.Commit{Note: "tried"})
+	c.Switch(head)
+	c.Accept("o", head, [][]byte{[]byte("tried")})
+	if other, e := c.Peer("you"); e == api.OK {
+		c.Merge(other, object.Commit{Note: "tried"})
+	}
+	c.Collect()
 }
 
 // openCut: Open is cut off at each step behind the crash, and called again behind another one.
